@@ -1,0 +1,1 @@
+"""Faults in sheaves, and the rooms through which they go."""

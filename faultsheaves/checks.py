@@ -1,0 +1,18 @@
+"""What counts as a whole number, a text, a name: asked of anything."""
+
+
+def is_whole(thing):
+    """Whether this is a whole number."""
+    # True and False are ints to Python, but no numbers here.
+    return isinstance(thing, int) and not isinstance(thing, bool)
+
+
+def is_text(thing):
+    """Whether this is a text."""
+    return isinstance(thing, str)
+
+
+def is_name(thing):
+    """Whether this is a text of one to eight small letters, a to z."""
+    # Signs are compared one by one, since islower() takes letters beyond a to z, too.
+    return is_text(thing) and 1 <= len(thing) <= 8 and all("a" <= sign <= "z" for sign in thing)
