@@ -1,9 +1,9 @@
-"""The interface: each class and method is there, in its own file, with its arguments as written."""
+"""The interface: each class, method and function is there, in its own file, with its arguments as written."""
 
 import inspect
 import unittest
 
-from faultsheaves import errors
+from faultsheaves import causes, errors, fitting, parts
 from faultsheaves.kinds import Kinds
 from faultsheaves.ledger import Ledger
 
@@ -21,6 +21,15 @@ METHODS = {
     },
 }
 
+FUNCTIONS = {
+    fitting: {"is_test": ["kinds", "thing"], "fits": ["ledger", "k", "test"]},
+    parts: {
+        "part": ["ledger", "k", "ways"], "split": ["ledger", "k", "test"], "placed": ["ledger", "k", "test"],
+        "alike": ["ledger", "k", "j"],
+    },
+    causes: {"row": ["ledger", "k"]},
+}
+
 ERRORS = [
     "FaultError", "NoKind", "NoText", "NoFault", "Empty", "NoWay", "NoTest", "NoProgram", "NoBody", "NoRow",
 ]
@@ -34,6 +43,15 @@ class TestInterface(unittest.TestCase):
                     self.assertIn(name, vars(owner))
                     given = list(inspect.signature(vars(owner)[name]).parameters)
                     self.assertEqual(given[1:], arguments)
+
+    def test_functions_are_defined_in_their_files(self):
+        for module, functions in FUNCTIONS.items():
+            for name, arguments in functions.items():
+                with self.subTest(module=module, name=name):
+                    function = vars(module)[name]
+                    self.assertTrue(inspect.isfunction(function))
+                    self.assertEqual(function.__module__, module.__name__)
+                    self.assertEqual(list(inspect.signature(function).parameters), arguments)
 
     def test_classes_are_defined_in_their_files(self):
         self.assertEqual(Kinds.__module__, "faultsheaves.kinds")
