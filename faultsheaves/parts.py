@@ -7,7 +7,7 @@ from faultsheaves.fitting import check_test, holds
 def part(ledger, k, ways):
     """The part of a fault at the leaves to which these ways lead: a number, or None."""
     _check_ways(ledger, k, ways)
-    return _part(ledger, k, ways)
+    return part_at(ledger, k, ways)
 
 
 def split(ledger, k, test):
@@ -15,7 +15,7 @@ def split(ledger, k, test):
     sided = _sided(ledger, k, test)
     fit = [way for way, side in sided if side == 0]
     left = [way for way, side in sided if side == 1]
-    return (_part(ledger, k, fit), _part(ledger, k, left))
+    return (part_at(ledger, k, fit), part_at(ledger, k, left))
 
 
 def placed(ledger, k, test):
@@ -28,6 +28,20 @@ def placed(ledger, k, test):
         last[side] = (way, there)
         found.append((way, side, there))
     return found
+
+
+def part_at(ledger, k, ways):
+    """The part of a fault at leaves whose ways are surely such, each told once."""
+    if not ways:
+        return None
+    if len(ways) == len(ledger.leaves(k)):
+        return k
+    behind = {}
+    for way in ways:
+        behind.setdefault(way[0], []).append(way[1:])
+    members = ledger.members(k)
+    # By places in order, since the ways may come in any.
+    return ledger.like(k, [part_at(ledger, members[place], behind[place]) for place in sorted(behind)])
 
 
 def alike(ledger, k, j):
@@ -57,20 +71,6 @@ def _check_ways(ledger, k, ways):
         if way not in waiting:
             raise NoWay("no leaf stands here, or it came ahead")
         del waiting[way]
-
-
-def _part(ledger, k, ways):
-    """The part of a fault at leaves whose ways are surely such, each told once."""
-    if not ways:
-        return None
-    if len(ways) == len(ledger.leaves(k)):
-        return k
-    found = []
-    for place, member in enumerate(ledger.members(k)):
-        inner = _part(ledger, member, [way[1:] for way in ways if way[0] == place])
-        if inner is not None:
-            found.append(inner)
-    return ledger.like(k, found)
 
 
 def _sided(ledger, k, test):

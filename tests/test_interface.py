@@ -3,7 +3,7 @@
 import inspect
 import unittest
 
-from faultsheaves import causes, errors, fitting, parts
+from faultsheaves import catchers, causes, errors, fitting, parts, programs, shown
 from faultsheaves.kinds import Kinds
 from faultsheaves.ledger import Ledger
 
@@ -28,6 +28,12 @@ FUNCTIONS = {
         "alike": ["ledger", "k", "j"],
     },
     causes: {"row": ["ledger", "k"]},
+    shown: {"shown": ["ledger", "k"]},
+    programs: {"is_program": ["kinds", "thing"]},
+    catchers: {
+        "first_fit": ["ledger", "k", "tests"], "taken_out": ["ledger", "k", "tests"],
+        "come_out": ["ledger", "k", "told", "again", "anew"],
+    },
 }
 
 ERRORS = [
