@@ -1,4 +1,4 @@
-"""Programs: what is one, by some kinds."""
+"""Programs: what is one, by some kinds, and copies of their bodies."""
 
 from faultsheaves.checks import is_name, is_text, is_whole
 from faultsheaves.fitting import is_test
@@ -113,3 +113,19 @@ def _are_catchers(look, thing, level, free):
         if not is_test(look.known, test) or not _is_body(look, body, level + 1, True, free):
             return False
     return True
+
+
+def copied(body):
+    """A body just like this one, that shares no list with it."""
+    return [_copied_step(step) for step in body]
+
+
+def _copied_step(step):
+    if step[0] == "gather":
+        word, text, bodies = step
+        return (word, text, [copied(body) for body in bodies])
+    if step[0] == "room":
+        word, name, body, way, catchers, otherwise, leaving = step
+        caught = [(test, copied(inner)) for test, inner in catchers]
+        return (word, name, copied(body), way, caught, copied(otherwise), copied(leaving))
+    return step

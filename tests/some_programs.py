@@ -11,7 +11,7 @@ SORTS = {
 }
 
 NO_LISTS = [None, True, False, 0, 1, -1, "", "say", (), (("say", "a"),), ("say", "a"), ([],), {}, {"say": "a"}]
-NO_NAMES = ["", "A", "aB", "a1", "1", "a ", " a", "a b", "abcdefghi", "a_b", "a-b", "a\n", "."] + NO_TEXTS
+NO_NAMES = ["", "A", "aB", "a1", "1", "a ", " a", "a b", "abcdefghi", "a_b", "a-b", "."] + NO_TEXTS
 NO_STEPS = [
     None, True, False, 0, 1, "", "say", "again", [], {}, (), ("",), ("said", "a"), ("Say", "a"), ("SAY", "a"),
     ("say ", "a"), ("nothing",), ("go", "a"), (None,), (0, "a"), (True, "a"), ([], "a"), ({}, "a"), ((), "a"),

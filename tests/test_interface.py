@@ -3,7 +3,9 @@
 import inspect
 import unittest
 
-from faultsheaves import catchers, causes, errors, fitting, parts, programs, shown
+from faultsheaves import catchers, causes, errors, fitting, parts, programs, programtexts, roads, shown
+from faultsheaves.desk import Desk
+from faultsheaves.house import House
 from faultsheaves.kinds import Kinds
 from faultsheaves.ledger import Ledger
 
@@ -19,6 +21,8 @@ METHODS = {
         "blame": ["k", "j"], "rise": ["k", "j"], "leaves": ["k"], "led": ["k", "way"],
         "kinds": [], "twin": [],
     },
+    House: {"__init__": ["kinds", "program"], "run": ["name"], "ledger": [], "split": ["k", "test"], "events": []},
+    Desk: {"__init__": [], "say": ["row"]},
 }
 
 FUNCTIONS = {
@@ -33,6 +37,11 @@ FUNCTIONS = {
     catchers: {
         "first_fit": ["ledger", "k", "tests"], "taken_out": ["ledger", "k", "tests"],
         "come_out": ["ledger", "k", "told", "again", "anew"],
+    },
+    roads: {"road": ["ledger", "events", "k"]},
+    programtexts: {
+        "program_text": ["kinds", "program"], "read_program": ["kinds", "text"], "text_of_test": ["kinds", "test"],
+        "read_test": ["kinds", "text"],
     },
 }
 
@@ -62,6 +71,8 @@ class TestInterface(unittest.TestCase):
     def test_classes_are_defined_in_their_files(self):
         self.assertEqual(Kinds.__module__, "faultsheaves.kinds")
         self.assertEqual(Ledger.__module__, "faultsheaves.ledger")
+        self.assertEqual(House.__module__, "faultsheaves.house")
+        self.assertEqual(Desk.__module__, "faultsheaves.desk")
         for name in ERRORS:
             self.assertEqual(getattr(errors, name).__module__, "faultsheaves.errors")
 
